@@ -1,0 +1,1 @@
+"""Saidacross: how much must be said of a row whose places are dealt out."""

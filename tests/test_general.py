@@ -1,0 +1,293 @@
+"""Points 2 to 4 and 29: the general rules and the interface, for what has landed."""
+
+import copy
+import importlib
+import inspect
+import random
+import sys
+import unittest
+
+import support
+from saidacross.blocks import block, block_fault
+from saidacross.books import book, book_fault
+from saidacross.deeds import deed, deeds, done, steady
+from saidacross.errors import NoDeed, NoLot, NoMachine, NoNumber, NoWord, SaidError
+from saidacross.kinds import fixed, kind, swap, swap_fault
+from saidacross.lots import core, fulls, made
+from saidacross.machines import Machine, least, parting, says, says_far
+from saidacross.sayings import holds, machine_of
+from test_deeds import EXCHANGES, counts
+
+INTERFACE = {
+    "machines": ["says(machine, word)", "says_far(machine, word, times)", "least(machine)",
+                 "parting(one, other)"],
+    "sayings": ["holds(letters, saying, word)", "machine_of(letters, saying)"],
+    "deeds": ["deed(machine, word)", "deeds(machine)", "done(machine, one, other)",
+              "steady(machine, word)"],
+    "lots": ["made(machine, lot)", "fulls(machine, lot)", "core(machine, lot)"],
+    "kinds": ["fixed(machine)", "swap(machine)", "swap_fault(machine, thing)", "kind(machine)"],
+    "blocks": ["block(machine)", "block_fault(machine, thing)"],
+    "books": ["book(machine)", "book_fault(machine, thing)"],
+}
+FIRST = Machine("ab", ((1, 2), (1, 1), (2, 2)), (1,))
+RING = Machine("ab", ((1, 2), (2, 0), (2, 2)), (0,))
+BOOK = {"a": (1, "a"), "b": (1, "b"), "ab": (1, "ab")}
+BLOCK = ("ab", "a", "a", "b", "b")
+
+
+def calls_about(machine):
+    """Calls of each function with right arguments, as tuples of a function and its arguments."""
+    x, y = machine.letters()[0], machine.letters()[-1]
+    return [
+        (says, machine, x + y), (says_far, machine, x + y, 10 ** 30), (least, machine),
+        (parting, machine, machine), (holds, "ab", ("cut", "a", ("last", "b"), ("only", "")), "ba"),
+        (machine_of, "ab", ("and", ("first", "a"), ("count", "b", 3, 1))), (deed, machine, x),
+        (deeds, machine), (done, machine, deed(machine, x), deed(machine, y)),
+        (steady, machine, y + x), (made, machine, x), (fulls, machine, x), (core, machine, y),
+        (fixed, machine), (swap, machine), (swap_fault, machine, (x, x, y, "")), (kind, machine),
+        (block, machine), (block_fault, machine, BLOCK), (book, machine),
+        (book_fault, machine, dict(BOOK)),
+    ]
+
+
+class InterfaceTest(unittest.TestCase):
+    def test_functions(self):
+        for file, listed in INTERFACE.items():
+            module = importlib.import_module("saidacross." + file)
+            for line in listed:
+                name, arguments = line[:-1].split("(")
+                function = getattr(module, name)
+                self.assertTrue(inspect.isfunction(function), name)
+                self.assertEqual(function.__module__, "saidacross." + file)
+                told = inspect.signature(function).parameters
+                self.assertEqual(list(told), arguments.split(", "), name)
+                for parameter in told.values():
+                    self.assertIs(parameter.default, inspect.Parameter.empty)
+
+    def test_machine(self):
+        self.assertEqual(Machine.__module__, "saidacross.machines")
+        for name in ("letters", "table", "accepts", "__eq__"):
+            self.assertIn(name, vars(Machine))
+        told = inspect.signature(Machine).parameters
+        self.assertEqual(list(told), ["letters", "table", "accepts"])
+
+    def test_kinds_of_values(self):
+        for machine in (FIRST, RING, Machine("c", ((0,),), ())):
+            self.assertIs(type(least(machine)), Machine)
+            self.assertIs(type(deed(machine, "")), tuple)
+            self.assertIs(type(deeds(machine)), list)
+            self.assertIs(type(deeds(machine)[0]), tuple)
+            self.assertIs(type(steady(machine, "")), int)
+            for tell in (made, fulls, core):
+                told = tell(machine, machine.letters()[0])
+                self.assertIs(type(told), list)
+                self.assertEqual({type(one) for one in told}, {tuple})
+            self.assertIs(type(fixed(machine)), bool)
+            self.assertIn(type(swap(machine)), (tuple, type(None)))
+            self.assertIs(type(kind(machine)), str)
+        self.assertIs(type(machine_of("ab", ("first", "a"))), Machine)
+        self.assertIs(type(book(FIRST)), dict)
+        self.assertEqual({type(page) for page in book(FIRST).values()}, {tuple})
+        self.assertIs(type(block(RING)), tuple)
+
+
+class IntegersAndFlagsTest(unittest.TestCase):
+    """Point 2: a flag is no integer, wherever it stands."""
+
+    def test_flags_are_no_integers(self):
+        for table in (((False,),), ((0,), (True,))):
+            with self.assertRaises(NoMachine):
+                Machine("a", table, ())
+        with self.assertRaises(NoMachine):
+            Machine("a", ((0,),), (False,))
+        for flag in (True, False):
+            with self.assertRaises(NoNumber):
+                says_far(FIRST, "a", flag)
+            for pair in (((flag, 1, 2), (0, 1, 2)), ((0, 1, 2), (0, flag, 2))):
+                with self.assertRaises(NoDeed):
+                    done(FIRST, *pair)
+            self.assertEqual(book_fault(FIRST, {**BOOK, "ab": (flag, "ab")}), ("form",))
+
+    def test_answers_are_flags(self):
+        for told in (says(FIRST, "a"), says(FIRST, "b"), says_far(FIRST, "a", 3), fixed(FIRST),
+                     holds("ab", ("first", "a"), "b"), holds("ab", ("only", ""), ""),
+                     holds("ab", ("cut", "a", ("only", ""), ("only", "")), "b"),
+                     holds("ab", ("and", ("in", "a"), ("in", "b")), "ab"),
+                     holds("ab", ("or", ("in", "a"), ("in", "b")), "ab"),
+                     FIRST == RING, FIRST == 3):
+            self.assertIs(type(told), bool)
+
+
+class NothingIsChangedTest(unittest.TestCase):
+    """Point 3."""
+
+    def test_machines_stay_as_they_were(self):
+        for machine in support.drawn_machines(81, 30):
+            parts = (machine.letters(), machine.table(), machine.accepts())
+            for function, *arguments in calls_about(machine):
+                function(*arguments)
+                self.assertEqual((machine.letters(), machine.table(), machine.accepts()), parts)
+
+    def test_arguments_stay_as_they_were(self):
+        things = [["ab"], {"a": [1, "a"], "b": [2]}, {"ab": (1, "ab"), "a": (1, "a"), "b": (1, "b")},
+                  [["a", "b"], {}], ("", "a", ["b"], {"": ""}), ["", "a", "b", ""], [0, 1, 2]]
+        judges = [
+            lambda thing: says(FIRST, thing), lambda thing: says_far(FIRST, "a", thing),
+            lambda thing: holds(thing, ("first", "a"), "a"), lambda thing: holds("ab", thing, "a"),
+            lambda thing: holds("ab", ("first", "a"), thing), lambda thing: machine_of("ab", thing),
+            lambda thing: machine_of(thing, ("first", "a")), lambda thing: deed(FIRST, thing),
+            lambda thing: done(FIRST, thing, (0, 1, 2)), lambda thing: steady(FIRST, thing),
+            lambda thing: done(FIRST, (0, 1, 2), thing), lambda thing: made(FIRST, thing),
+            lambda thing: fulls(FIRST, thing), lambda thing: core(FIRST, thing),
+            lambda thing: swap_fault(FIRST, thing), lambda thing: block_fault(FIRST, thing),
+            lambda thing: book_fault(FIRST, thing), lambda thing: book_fault(RING, thing),
+            lambda thing: Machine(thing, ((0,),), ()), lambda thing: Machine("a", thing, ()),
+            lambda thing: Machine("a", ((0,),), thing),
+        ]
+        for judge in judges:
+            for thing in things:
+                keep = copy.deepcopy(thing)
+                try:
+                    judge(thing)
+                except SaidError:
+                    pass
+                self.assertEqual(thing, keep)
+                if isinstance(thing, dict):
+                    self.assertEqual(list(thing), list(keep))
+
+    def test_equal_calls_give_equal_results(self):
+        for machine in [FIRST, RING] + support.drawn_machines(82, 40):
+            twin = Machine(machine.letters(), machine.table(), machine.accepts())
+            for one, other in zip(calls_about(machine), calls_about(twin)):
+                told = one[0](*one[1:])
+                self.assertEqual(one[0](*one[1:]), told)
+                self.assertEqual(other[0](*other[1:]), told)
+
+    def test_what_was_returned_is_new(self):
+        for machine in [FIRST] + support.drawn_machines(83, 20):
+            for function, *arguments in calls_about(machine):
+                told = function(*arguments)
+                keep = copy.deepcopy(told)
+                if isinstance(told, list):
+                    told.reverse()
+                    told.append(None)
+                    told[0] = 0
+                elif isinstance(told, dict):
+                    told.clear()
+                    told["a"] = None
+                self.assertEqual(function(*arguments), keep)
+
+    def test_errors_change_nothing(self):
+        keep = deeds(FIRST)
+        for judge in (lambda: says(FIRST, "c"), lambda: made(FIRST, "c"),
+                      lambda: done(FIRST, (), ()), lambda: deeds(EXCHANGES)):
+            with self.assertRaises(SaidError):
+                judge()
+            self.assertEqual(deeds(FIRST), keep)
+
+    def test_what_was_returned_may_be_passed_on(self):
+        machine = counts(6, 6, 5)
+        self.assertEqual(len(machine.table()), 180)
+        self.assertEqual(least(machine), machine)
+        self.assertIs(says(machine, "aaaaaabbbbbbccccc"), True)
+        self.assertIs(says_far(machine, "ab", 10 ** 30 - 4), True)
+        self.assertIsNone(parting(machine, least(machine)))
+        self.assertEqual(len(deed(machine, "abc")), 180)
+        self.assertEqual(done(machine, deed(machine, "a"), deed(machine, "b")), deed(machine, "ab"))
+        other = machine_of("abcd", ("count", "a", 6, 0))
+        self.assertEqual(parting(machine, other), "b")
+
+
+class OrderOfArgumentsTest(unittest.TestCase):
+    """Point 4: each argument completely before the next one."""
+
+    def test_first_wrong_argument_is_told(self):
+        for word in (None, "c", 0, ["a"]):
+            for times in (None, -1, True):
+                with self.assertRaises(NoWord):
+                    says_far(FIRST, word, times)
+        with self.assertRaises(NoLot):
+            made(EXCHANGES, "ba")
+        with self.assertRaises(NoMachine) as caught:
+            Machine("ab", ((0, 0), (0, 9)), (5,))
+        self.assertEqual(caught.exception.part, "table")
+
+    def test_values_of_each_kind(self):
+        for thing in support.odd_values():
+            self.assertEqual(swap_fault(FIRST, thing), ("form",))
+            self.assertEqual(block_fault(FIRST, thing), ("form",))
+            self.assertEqual(book_fault(FIRST, thing), ("form",))
+            for other in support.odd_values():
+                with self.assertRaises(NoDeed):
+                    done(FIRST, thing, other)
+
+
+class NoRecursionErrorTest(unittest.TestCase):
+    """Point 4: no call goes deep, whatever is passed."""
+
+    def shallow(self, call):
+        limit = sys.getrecursionlimit()
+        sys.setrecursionlimit(len(inspect.stack()) + 60)
+        try:
+            return call()
+        finally:
+            sys.setrecursionlimit(limit)
+
+    def test_long_words(self):
+        source = random.Random(84)
+        word = "".join(source.choice("ab") for _ in range(3000))
+        for machine in (FIRST, RING, EXCHANGES):
+            self.assertEqual(self.shallow(lambda: says(machine, word)),
+                             support.plainly_says(machine, word))
+            self.shallow(lambda: says_far(machine, word, 10 ** 30))
+            self.shallow(lambda: steady(machine, word))
+            self.shallow(lambda: swap_fault(machine, (word, "a", "b", word)))
+            self.shallow(lambda: block_fault(machine, (word,) * 5))
+        self.shallow(lambda: book_fault(FIRST, {**BOOK, "ab": (100, word)}))
+        self.shallow(lambda: holds("ab", ("cut", "a", ("in", "abab"), ("row", "bb")), word))
+
+    def test_many_states(self):
+        machine = self.shallow(lambda: counts(5, 5, 2, 4))
+        self.assertEqual(len(machine.table()), 200)
+        for call in (lambda: least(machine), lambda: parting(machine, machine),
+                     lambda: says(machine, "abcd" * 50), lambda: steady(machine, "abcd"),
+                     lambda: fixed(machine), lambda: swap(machine)):
+            self.shallow(call)
+
+    def test_deep_values(self):
+        for thing in support.odd_values():
+            for call in (lambda: Machine(thing, thing, thing), lambda: machine_of("ab", thing),
+                         lambda: holds("ab", ("not", thing), thing), lambda: made(FIRST, thing),
+                         lambda: deed(FIRST, thing), lambda: done(FIRST, thing, thing)):
+                with self.assertRaises(SaidError):
+                    if self.shallow(call) is not None and isinstance(thing, str):
+                        raise SaidError()
+            for judge in (swap_fault, block_fault, book_fault):
+                self.assertEqual(self.shallow(lambda: judge(FIRST, thing)), ("form",))
+
+
+class OrderOfStringsTest(unittest.TestCase):
+    """Point 2: a shorter string comes first, then as Python orders them."""
+
+    def test_words(self):
+        for machine in support.drawn_machines(85, 40):
+            words = [word for word, _ in deeds(machine)]
+            self.assertEqual(words, support.in_order(words))
+
+    def test_lots(self):
+        # Each letter does nothing behind the first three of it: one of them is too few.
+        machine = machine_of("abc", ("and", ("least", "a", 3),
+                                     ("and", ("least", "b", 3), ("least", "c", 3))))
+        pages = book(machine)
+        order = ["a", "b", "c", "ab", "ac", "bc", "abc"]
+        for lot in order:
+            self.assertEqual(pages[lot], (3, "".join(letter * 3 for letter in lot)))
+        spoiled = {lot: (1, lot) for lot in order}
+        for lot in order:
+            self.assertEqual(book_fault(machine, spoiled), ("core", lot))
+            spoiled[lot] = pages[lot]
+        self.assertIsNone(book_fault(machine, spoiled))
+
+
+if __name__ == "__main__":
+    unittest.main()
