@@ -7,14 +7,7 @@ from saidacross.lots import core_numbers, full_numbers, full_words, group_number
 
 def book(machine):
     """The book with the least depths and the first words, or None if there is a block."""
-    doings = Doings(machine)
-    pages = {}
-    for lot in lots_of(machine.letters()):
-        page = _page(doings, lot)
-        if page is None:
-            return None
-        pages[lot] = page
-    return pages
+    return pages_of(Doings(machine), machine.letters())
 
 
 def book_fault(machine, thing):
@@ -28,6 +21,17 @@ def book_fault(machine, thing):
         if fault is not None:
             return fault
     return None
+
+
+def pages_of(doings, letters):
+    """What `book` tells of a machine with these doings and letters."""
+    pages = {}
+    for lot in lots_of(letters):
+        page = _page(doings, lot)
+        if page is None:
+            return None
+        pages[lot] = page
+    return pages
 
 
 def least_depth(doings, lot):

@@ -1,7 +1,8 @@
 """The deeds of a machine with numbers, so that they are done by a table."""
 
-from saidacross.deeds import deed, deeds
-from saidacross.walking import then
+from saidacross.deeds import deeds
+from saidacross.machines import least
+from saidacross.walking import ends_of, then
 
 
 class Doings:
@@ -16,8 +17,10 @@ class Doings:
         told = deeds(machine)
         self.words = [pair[0] for pair in told]
         self.moves = [pair[1] for pair in told]
-        steps = [deed(machine, letter) for letter in machine.letters()]
-        self.follow = _follow(machine.letters(), steps, self.moves)
+        letters = machine.letters()
+        table = least(machine).table()
+        steps = [ends_of(letters, table, letter) for letter in letters]
+        self.follow = _follow(letters, steps, self.moves)
         self.both = _both(self.words, self.follow)
 
     def number(self, word):
@@ -33,6 +36,18 @@ class Doings:
         for number in numbers:
             at = self.both[at][number]
         return at
+
+    def times(self, number, many):
+        """The number of the deed of doing this one `many` times."""
+        found = 0
+        power = number
+        left = many
+        while left > 0:
+            if left % 2 == 1:
+                found = self.both[found][power]
+            power = self.both[power][power]
+            left = left // 2
+        return found
 
     def is_steady(self, number):
         """Whether doing it twice is the deed itself."""

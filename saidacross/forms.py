@@ -1,5 +1,7 @@
 """Judges of values that are handed in: each one takes a value of any kind and returns a flag."""
 
+ALPHABET = "abcdefghijklmnopqrstuvwxyz"
+
 
 def is_integer(thing):
     """Whether it is an integer and no flag."""

@@ -1,10 +1,10 @@
 """The three kinds of machines."""
 
 from saidacross.books import book
-from saidacross.deeds import deed
 from saidacross.forms import is_letter, is_word
 from saidacross.machines import least, says
-from saidacross.walking import first_parting, first_words
+from saidacross.partings import around_unlike
+from saidacross.walking import ends_of, then
 
 
 def fixed(machine):
@@ -21,13 +21,7 @@ def swap(machine):
     if letters is None:
         return None
     one, other = letters
-    fewest = least(machine)
-    heres = deed(machine, one + other)
-    theres = deed(machine, other + one)
-    words = first_words(fewest.letters(), fewest.table())
-    state = [at for at in range(len(heres)) if heres[at] != theres[at]][0]
-    ahead = words[state]
-    behind = first_parting(fewest, fewest, (heres[state], theres[state]))
+    ahead, behind = around_unlike(machine, one + other, other + one)
     if says(machine, ahead + one + other + behind):
         return (ahead, one, other, behind)
     return (ahead, other, one, behind)
@@ -57,9 +51,11 @@ def kind(machine):
 def _first_unlike(machine):
     """The first two letters that may not change places, or None."""
     letters = machine.letters()
+    table = least(machine).table()
+    steps = {letter: ends_of(letters, table, letter) for letter in letters}
     for one in letters:
         for other in letters:
-            if deed(machine, one + other) != deed(machine, other + one):
+            if then(steps[one], steps[other]) != then(steps[other], steps[one]):
                 return (one, other)
     return None
 

@@ -8,14 +8,24 @@ import sys
 import unittest
 
 import support
+from saidacross.answertables import answers, rank
 from saidacross.blocks import block, block_fault
 from saidacross.books import book, book_fault
+from saidacross.boxes import box, parted, worth
+from saidacross.dealings import crossed, seen, stretches
 from saidacross.deeds import deed, deeds, done, steady
-from saidacross.errors import NoDeed, NoLot, NoMachine, NoNumber, NoWord, SaidError
+from saidacross.errors import (NoCounts, NoDeed, NoLot, NoMachine, NoNumber, NoTable, NoTurn, NoWord,
+                               SaidError)
+from saidacross.gaps import gap
+from saidacross.halves import halves, heard_once, once, settled
 from saidacross.kinds import fixed, kind, swap, swap_fault
 from saidacross.lots import core, fulls, made
 from saidacross.machines import Machine, least, parting, says, says_far
+from saidacross.pieces import between, modulus, pieces, pieces_back
 from saidacross.sayings import holds, machine_of
+from saidacross.strangers import break_long, break_talk
+from saidacross.talks import Talk, cheapest, most_bits, ways
+from saidacross.writings import mark_block, mark_fault, mark_rank, mark_writings, order_writings
 from test_deeds import EXCHANGES, counts
 
 INTERFACE = {
@@ -28,6 +38,26 @@ INTERFACE = {
     "kinds": ["fixed(machine)", "swap(machine)", "swap_fault(machine, thing)", "kind(machine)"],
     "blocks": ["block(machine)", "block_fault(machine, thing)"],
     "books": ["book(machine)", "book_fault(machine, thing)"],
+    "gaps": ["gap(machine)"],
+    "pieces": ["pieces(lot, word)", "pieces_back(lot, word)", "modulus(machine, lot)",
+               "between(machine, lot, left, counts, right)"],
+    "boxes": ["box(machine, lot)", "worth(machine, lot, letter)", "parted(machine, lot, word)"],
+    "dealings": ["seen(dealing, row, hand)", "crossed(dealing, rows)", "stretches(dealing)"],
+    "talks": ["most_bits(machine, dealing, way)", "ways(machine)", "cheapest(machine, dealing)"],
+    "answertables": ["answers(machine, dealing, ones, others)", "rank(table)"],
+    "writings": ["order_writings(machine, size)", "mark_block(machine)",
+                 "mark_fault(machine, thing)", "mark_writings(machine, thing, marks)",
+                 "mark_rank(machine, thing, marks)"],
+    "strangers": ["break_talk(machine, most, turn, tell)", "break_long(machine, most, turn, tell)"],
+    "halves": ["halves(machine, ahead, behind)", "settled(machine)",
+               "once(machine, ahead, behind, told)",
+               "heard_once(machine, ahead, behind, number, told)"],
+}
+CLASSES = {
+    "machines": ("Machine(letters, table, accepts)", ["letters()", "table()", "accepts()",
+                                                      "__eq__(other)"]),
+    "talks": ("Talk(machine, dealing, row, way)", ["step()", "heard()", "bits()", "answer()", "run()",
+                                                   "back(many)", "copy()"]),
 }
 FIRST = Machine("ab", ((1, 2), (1, 1), (2, 2)), (1,))
 RING = Machine("ab", ((1, 2), (2, 0), (2, 2)), (0,))
@@ -46,8 +76,44 @@ def calls_about(machine):
         (steady, machine, y + x), (made, machine, x), (fulls, machine, x), (core, machine, y),
         (fixed, machine), (swap, machine), (swap_fault, machine, (x, x, y, "")), (kind, machine),
         (block, machine), (block_fault, machine, BLOCK), (book, machine),
-        (book_fault, machine, dict(BOOK)),
-    ]
+        (book_fault, machine, dict(BOOK)), (gap, machine), (pieces, "ab", "abaab"),
+        (pieces_back, "ab", "abaab"), (seen, "ABC", "az.", "B"), (crossed, "AB", ["ab", ".z"]),
+        (stretches, "AABDD"), (most_bits, machine, "ABBA", "passed"), (ways, machine),
+        (cheapest, machine, "ABBA"), (whole_talk, machine, "ABBA", x + "." + y + x, "passed"),
+        (answers, machine, "AB", [x, ".", x], [y, y]), (rank, [[1, 2], [2, 4], [0, 1]]),
+        (mark_fault, machine, ("", BLOCK, "")), (halves, machine, 2, 10 ** 30), (settled, machine),
+        (once, machine, 2, 3, x + "."), (heard_once, machine, 2, 3, 0, "." + y + y),
+    ] + calls_by_kind(machine)
+
+
+def whole_talk(machine, dealing, row, way):
+    """All that a talk tells."""
+    talk = Talk(machine, dealing, row, way)
+    twin = talk.copy()
+    return (talk.run(), talk.heard(), talk.bits(), twin.heard(), twin.answer(), talk.answer())
+
+
+def calls_by_kind(machine):
+    """Calls that are right for some machines alone."""
+    lot = machine.letters()
+    calls = []
+    if book(machine) is not None:
+        deep = lot * book(machine)[lot][0]
+        calls += [(modulus, machine, lot), (between, machine, lot, deep, (7,) * len(lot), deep),
+                  (box, machine, lot), (worth, machine, lot, lot[0]), (parted, machine, lot, deep),
+                  (whole_talk, machine, "ABBA", lot[0] + "." + lot[-1] * 2, "book")]
+    if fixed(machine):
+        calls.append((whole_talk, machine, "ABBA", lot[0] + "." + lot[-1] * 2, "sums"))
+    else:
+        calls += [(order_writings, machine, 3),
+                  (break_talk, machine, 1, lambda dealing, heard: heard == "1" or not heard and "A",
+                   lambda dealing, hand, sees, heard: "01"["." in sees])]
+    if block(machine) is not None:
+        thing = mark_block(machine)
+        calls += [(mark_block, machine), (mark_writings, machine, thing, 2),
+                  (mark_rank, machine, thing, 20),
+                  (break_long, machine, 0, lambda dealing, heard: True, None)]
+    return calls
 
 
 class InterfaceTest(unittest.TestCase):
@@ -64,12 +130,18 @@ class InterfaceTest(unittest.TestCase):
                 for parameter in told.values():
                     self.assertIs(parameter.default, inspect.Parameter.empty)
 
-    def test_machine(self):
-        self.assertEqual(Machine.__module__, "saidacross.machines")
-        for name in ("letters", "table", "accepts", "__eq__"):
-            self.assertIn(name, vars(Machine))
-        told = inspect.signature(Machine).parameters
-        self.assertEqual(list(told), ["letters", "table", "accepts"])
+    def test_classes(self):
+        for file, (line, methods) in CLASSES.items():
+            name, arguments = line[:-1].split("(")
+            one = getattr(importlib.import_module("saidacross." + file), name)
+            self.assertTrue(inspect.isclass(one))
+            self.assertEqual(one.__module__, "saidacross." + file)
+            self.assertEqual(list(inspect.signature(one).parameters), arguments.split(", "))
+            for method in methods:
+                name, arguments = method[:-1].split("(")
+                self.assertIn(name, vars(one))
+                told = list(inspect.signature(vars(one)[name]).parameters)
+                self.assertEqual(told, ["self"] + [part for part in [arguments] if part])
 
     def test_kinds_of_values(self):
         for machine in (FIRST, RING, Machine("c", ((0,),), ())):
@@ -90,6 +162,34 @@ class InterfaceTest(unittest.TestCase):
         self.assertEqual({type(page) for page in book(FIRST).values()}, {tuple})
         self.assertIs(type(block(RING)), tuple)
 
+    def test_kinds_of_values_of_talks(self):
+        talk = Talk(FIRST, "AB", "ab", "book")
+        self.assertEqual((type(talk.heard()), type(talk.bits()), talk.answer()), (list, int, None))
+        self.assertIs(type(talk.step()), tuple)
+        self.assertIs(type(talk.run()), bool)
+        self.assertIs(type(talk.answer()), bool)
+        self.assertIsNone(talk.back(1))
+        self.assertIs(type(talk.copy()), Talk)
+        self.assertEqual([type(one) for one in (most_bits(FIRST, "AB", "book"), ways(FIRST),
+                                                cheapest(FIRST, "AB"))], [int, list, str])
+
+    def test_kinds_of_values_of_rows_and_tables(self):
+        self.assertIs(type(gap(RING)), tuple)
+        self.assertEqual([type(one) for one in pieces("a", "aa")], [list, str])
+        self.assertEqual([type(one) for one in pieces_back("a", "aa")], [str, list])
+        self.assertIs(type(modulus(FIRST, "ab")), int)
+        self.assertEqual([type(one) for one in box(FIRST, "ab")], [list] * 3)
+        for told in (between(FIRST, "a", "a", (1,), "a"), worth(FIRST, "a", "a"),
+                     parted(FIRST, "a", "a"), settled(FIRST), halves(FIRST, 1, 1), mark_block(RING)):
+            self.assertIs(type(told), tuple)
+        self.assertEqual([type(one) for one in halves(FIRST, 1, 1) + settled(FIRST)], [int] * 5)
+        self.assertIs(type(once(FIRST, 1, 1, "a")), int)
+        self.assertIs(type(heard_once(FIRST, 1, 1, 0, "a")), bool)
+        self.assertIs(type(rank([[1]])), int)
+        self.assertIs(type(mark_rank(RING, mark_block(RING), 3)), int)
+        for told in (order_writings(FIRST, 2), mark_writings(RING, mark_block(RING), 1)):
+            self.assertEqual([type(one) for one in told], [str, list, list])
+
 
 class IntegersAndFlagsTest(unittest.TestCase):
     """Point 2: a flag is no integer, wherever it stands."""
@@ -107,6 +207,21 @@ class IntegersAndFlagsTest(unittest.TestCase):
                 with self.assertRaises(NoDeed):
                     done(FIRST, *pair)
             self.assertEqual(book_fault(FIRST, {**BOOK, "ab": (flag, "ab")}), ("form",))
+            with self.assertRaises(NoCounts):
+                between(FIRST, "ab", "ab", (0, flag), "ab")
+            with self.assertRaises(NoTable):
+                rank([[1, flag]])
+            for call in (lambda: Talk(FIRST, "A", "a", "book").back(flag),
+                         lambda: order_writings(FIRST, flag), lambda: halves(FIRST, 0, flag),
+                         lambda: mark_rank(RING, mark_block(RING), flag),
+                         lambda: heard_once(FIRST, 1, 1, flag, "a"),
+                         lambda: break_talk(FIRST, flag, None, None)):
+                with self.assertRaises(NoNumber):
+                    call()
+        # An integer is no flag, either.
+        for number in (0, 1):
+            with self.assertRaises(NoTurn):
+                break_talk(FIRST, 2, lambda dealing, heard: number, None)
 
     def test_answers_are_flags(self):
         for told in (says(FIRST, "a"), says(FIRST, "b"), says_far(FIRST, "a", 3), fixed(FIRST),
@@ -130,7 +245,8 @@ class NothingIsChangedTest(unittest.TestCase):
 
     def test_arguments_stay_as_they_were(self):
         things = [["ab"], {"a": [1, "a"], "b": [2]}, {"ab": (1, "ab"), "a": (1, "a"), "b": (1, "b")},
-                  [["a", "b"], {}], ("", "a", ["b"], {"": ""}), ["", "a", "b", ""], [0, 1, 2]]
+                  [["a", "b"], {}], ("", "a", ["b"], {"": ""}), ["", "a", "b", ""], [0, 1, 2],
+                  [[0, 2, 1], [1, 1, 1], [2, 4, 2]], ["a", "b"], ["ab", ".."]]
         judges = [
             lambda thing: says(FIRST, thing), lambda thing: says_far(FIRST, "a", thing),
             lambda thing: holds(thing, ("first", "a"), "a"), lambda thing: holds("ab", thing, "a"),
@@ -142,7 +258,12 @@ class NothingIsChangedTest(unittest.TestCase):
             lambda thing: swap_fault(FIRST, thing), lambda thing: block_fault(FIRST, thing),
             lambda thing: book_fault(FIRST, thing), lambda thing: book_fault(RING, thing),
             lambda thing: Machine(thing, ((0,),), ()), lambda thing: Machine("a", thing, ()),
-            lambda thing: Machine("a", ((0,),), thing),
+            lambda thing: Machine("a", ((0,),), thing), lambda thing: crossed("AB", thing),
+            lambda thing: answers(FIRST, "AB", thing, ["a"]), lambda thing: rank(thing),
+            lambda thing: answers(FIRST, "AB", ["a"], thing), lambda thing: mark_fault(FIRST, thing),
+            lambda thing: mark_rank(RING, thing, 1), lambda thing: pieces("ab", thing),
+            lambda thing: between(FIRST, "ab", "ab", thing, "ab"),
+            lambda thing: Talk(FIRST, "AB", "ab", thing), lambda thing: most_bits(FIRST, thing, "book"),
         ]
         for judge in judges:
             for thing in things:
@@ -196,6 +317,16 @@ class NothingIsChangedTest(unittest.TestCase):
         self.assertEqual(done(machine, deed(machine, "a"), deed(machine, "b")), deed(machine, "ab"))
         other = machine_of("abcd", ("count", "a", 6, 0))
         self.assertEqual(parting(machine, other), "b")
+        self.assertEqual(halves(machine, 10 ** 30, 10 ** 30), (180, 180, 180))
+        dealing, ones, others = order_writings(EXCHANGES, 100)
+        self.assertEqual(rank(answers(EXCHANGES, dealing, ones, others)), 100)
+        self.assertEqual(len(stretches(dealing)), len(dealing))
+        dealing, ones, others = mark_writings(RING, mark_block(RING), 7)
+        row = crossed(dealing, [dealing.replace("A", "a").replace("B", "b"), "." * len(dealing)])
+        for way in ways(RING):
+            talk = Talk(RING, dealing, row, way)
+            self.assertIs(talk.run(), says(RING, row.replace(".", "")))
+            self.assertEqual(sum(len(bits) for _, bits in talk.heard()), talk.bits())
 
 
 class OrderOfArgumentsTest(unittest.TestCase):
@@ -214,6 +345,7 @@ class OrderOfArgumentsTest(unittest.TestCase):
 
     def test_values_of_each_kind(self):
         for thing in support.odd_values():
+            self.assertEqual(mark_fault(FIRST, thing), ("form",))
             self.assertEqual(swap_fault(FIRST, thing), ("form",))
             self.assertEqual(block_fault(FIRST, thing), ("form",))
             self.assertEqual(book_fault(FIRST, thing), ("form",))
@@ -246,23 +378,43 @@ class NoRecursionErrorTest(unittest.TestCase):
         self.shallow(lambda: book_fault(FIRST, {**BOOK, "ab": (100, word)}))
         self.shallow(lambda: holds("ab", ("cut", "a", ("in", "abab"), ("row", "bb")), word))
 
+    def test_long_rows(self):
+        source = random.Random(86)
+        dealing = "".join(source.choice("ABCD") for _ in range(400))
+        row = "".join(source.choice("ab.") for _ in range(400))
+        for machine in (FIRST, RING, machine_of("ab", ("count", "a", 6, 2))):
+            for way in ways(machine):
+                talk = self.shallow(lambda: Talk(machine, dealing, row, way))
+                self.assertIs(talk.answer() or self.shallow(talk.run), says(machine, row.replace(".", "")))
+                self.shallow(talk.copy)
+        self.shallow(lambda: pieces_back("ab", "ab" * 3000))
+        self.shallow(lambda: rank([[int(one <= other) for other in range(128)] for one in range(128)]))
+        self.shallow(lambda: mark_rank(RING, mark_block(RING), 300))
+        self.shallow(lambda: once(FIRST, 3000, 5, "ab." * 1000))
+
     def test_many_states(self):
         machine = self.shallow(lambda: counts(5, 5, 2, 4))
         self.assertEqual(len(machine.table()), 200)
         for call in (lambda: least(machine), lambda: parting(machine, machine),
                      lambda: says(machine, "abcd" * 50), lambda: steady(machine, "abcd"),
-                     lambda: fixed(machine), lambda: swap(machine)):
+                     lambda: fixed(machine), lambda: swap(machine),
+                     lambda: halves(machine, 9, 9), lambda: settled(machine)):
             self.shallow(call)
 
     def test_deep_values(self):
         for thing in support.odd_values():
             for call in (lambda: Machine(thing, thing, thing), lambda: machine_of("ab", thing),
                          lambda: holds("ab", ("not", thing), thing), lambda: made(FIRST, thing),
-                         lambda: deed(FIRST, thing), lambda: done(FIRST, thing, thing)):
+                         lambda: deed(FIRST, thing), lambda: done(FIRST, thing, thing),
+                         lambda: pieces(thing, thing), lambda: between(FIRST, "a", "a", thing, thing),
+                         lambda: seen(thing, thing, thing), lambda: crossed("AB", thing),
+                         lambda: Talk(FIRST, "AB", "ab", thing), lambda: rank(thing),
+                         lambda: answers(FIRST, thing, thing, thing),
+                         lambda: mark_writings(RING, thing, thing)):
                 with self.assertRaises(SaidError):
                     if self.shallow(call) is not None and isinstance(thing, str):
                         raise SaidError()
-            for judge in (swap_fault, block_fault, book_fault):
+            for judge in (swap_fault, block_fault, book_fault, mark_fault):
                 self.assertEqual(self.shallow(lambda: judge(FIRST, thing)), ("form",))
 
 

@@ -100,6 +100,8 @@ class FilesTest(unittest.TestCase):
                     other = tree_of(FOLDER / (file + ".py"))
                     defined = [part.name for part in other.body
                                if isinstance(part, (ast.FunctionDef, ast.ClassDef))]
+                    defined += [part.targets[0].id for part in other.body
+                                if isinstance(part, ast.Assign)]
                     self.assertLessEqual(set(names), set(defined))
                     uses[path.stem].append(file)
         while uses:
