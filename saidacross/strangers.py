@@ -23,7 +23,7 @@ def break_long(machine, most, turn, tell):
         raise NoNumber()
     thing = mark_block(machine)
     marks = 1
-    while mark_rank(machine, thing, marks) <= 1 << most:
+    while mark_rank(machine, thing, marks) <= (1 << most):
         marks += 1
     return _broken(machine, mark_writings(machine, thing, marks), most, turn, tell)
 
