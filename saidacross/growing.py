@@ -1,14 +1,16 @@
 """Least machines that are grown from a start, step by step, or from other machines."""
 
+from saidacross.errors import TooMany
 from saidacross.machines import machine_of_parts
 from saidacross.shrinking import least_parts
 
 
-def grown(letters, start, step, yes):
-    """The least machine of these letters that goes by functions.
+def explored(letters, start, step, most=None):
+    """All places to which steps lead from a start, in their order, and the table of them.
 
-    `step(at, letter)` tells where a letter leads, `yes(at)` whether a word that
-    ends there is said yes of. What stands for a place is free, but can be a key.
+    `step(at, letter)` tells where a letter leads. What stands for a place is free, but can be
+    a key. The table has for each place the numbers of those to which the letters lead. Where
+    `most` tells a number there are TooMany of more places.
     """
     numbers = {start: 0}
     order = [start]
@@ -22,9 +24,21 @@ def grown(letters, start, step, yes):
                 numbers[to] = len(order)
                 order.append(to)
             row.append(numbers[to])
+        if most is not None and len(order) > most:
+            raise TooMany(most)
         table.append(tuple(row))
-    accepts = [numbers[at] for at in order if yes(at)]
-    rows, accepted = least_parts(tuple(table), accepts)
+    return order, tuple(table)
+
+
+def grown(letters, start, step, yes):
+    """The least machine of these letters that goes by functions; TooMany(200) states of it.
+
+    `step` is as `explored` takes it, and `yes(at)` tells whether a word that ends there is
+    said yes of.
+    """
+    order, table = explored(letters, start, step)
+    accepts = [at for at in range(len(order)) if yes(order[at])]
+    rows, accepted = least_parts(table, accepts, 0, 200)
     return machine_of_parts(letters, rows, accepted)
 
 
@@ -33,11 +47,16 @@ def stepped(machine, state, letter):
     return machine.table()[state][machine.letters().index(letter)]
 
 
+def shrunk(letters, table, accepts, start=0):
+    """The least machine with these letters, states, accepted states and first state."""
+    rows, accepted = least_parts(table, accepts, start)
+    return machine_of_parts(letters, rows, accepted)
+
+
 def opposite(machine):
     """The least machine that says yes where this one says no."""
     accepts = [state for state in range(len(machine.table())) if state not in machine.accepts()]
-    table, accepted = least_parts(machine.table(), accepts)
-    return machine_of_parts(machine.letters(), table, accepted)
+    return shrunk(machine.letters(), machine.table(), accepts)
 
 
 def paired(one, other, judge):

@@ -1,8 +1,10 @@
 """What the strings of two halves of a row do: those of A ahead, those of B behind."""
 
-from saidacross.errors import TooMany
+from saidacross.columns import columns_of
+from saidacross.errors import NoNumber, TooMany
+from saidacross.forms import is_between
 from saidacross.machines import least
-from saidacross.walking import ends_of, first_words, then
+from saidacross.walking import first_words
 
 
 class HalfTable:
@@ -14,24 +16,27 @@ class HalfTable:
 
     def __init__(self, machine):
         fewest = least(machine)
-        many = len(fewest.table())
-        if many > 200:
+        if len(fewest.table()) > 200:
             raise TooMany(200)
-        words = first_words(fewest.letters(), fewest.table())
         self.fewest = fewest
+        self.columns, turned = columns_of(fewest)
         # The least number of places for each state, and for each column.
-        self.depths = [len(words[state]) for state in range(many)]
-        self.columns, self.lengths = _columns(fewest)
+        self.depths = _depths(fewest.letters(), fewest.table())
+        self.lengths = _depths(fewest.letters(), turned)
 
     def states(self, ahead):
         """The states to which strings of A of so many places lead, by their first words."""
         # The states of the least machine are numbered in this order.
         return [state for state, depth in enumerate(self.depths) if depth <= ahead]
 
+    def columns_within(self, behind):
+        """The columns of the strings of B of so many places."""
+        return [column for column, length in zip(self.columns, self.lengths)
+                if length <= behind]
+
     def rows(self, ahead, behind):
         """For each of these states a tuple of the answers to all columns of so many places."""
-        columns = [column for column, length in zip(self.columns, self.lengths)
-                   if length <= behind]
+        columns = self.columns_within(behind)
         return [tuple([column[state] for column in columns]) for state in self.states(ahead)]
 
     def class_states(self, ahead, behind):
@@ -47,22 +52,14 @@ class HalfTable:
         return firsts, classes
 
 
-def _columns(fewest):
-    """All columns, and the lengths of the shortest words that have them."""
-    steps = [ends_of(fewest.letters(), fewest.table(), letter) for letter in fewest.letters()]
-    start = tuple([int(state in fewest.accepts()) for state in range(len(fewest.table()))])
-    columns = [start]
-    lengths = {start: 0}
-    at = 0
-    while at < len(columns):
-        column = columns[at]
-        for step in steps:
-            # The letter stands ahead of the word that has the column.
-            more = then(step, column)
-            if more not in lengths:
-                lengths[more] = lengths[column] + 1
-                columns.append(more)
-        if len(columns) > 200:
-            raise TooMany(200)
-        at += 1
-    return columns, [lengths[column] for column in columns]
+def check_lengths(lengths):
+    """Raises the error of a length that is none."""
+    for length in lengths:
+        if not is_between(length, 0, 10 ** 30):
+            raise NoNumber()
+
+
+def _depths(letters, table):
+    """The length of the first word that leads to each state of a table, in their order."""
+    words = first_words(letters, table)
+    return [len(words[state]) for state in range(len(table))]

@@ -2,14 +2,14 @@
 
 from saidacross.errors import NoNumber, NoRow
 from saidacross.forms import is_between, is_word
-from saidacross.halftables import HalfTable
+from saidacross.halftables import HalfTable, check_lengths
 from saidacross.ranks import rank_of
 from saidacross.walking import end_of
 
 
 def halves(machine, ahead, behind):
     """How many strings of A, and of B, are unlike, and the rank of the table of answers."""
-    _check_lengths(ahead, behind)
+    check_lengths((ahead, behind))
     rows = HalfTable(machine).rows(ahead, behind)
     columns = [tuple([row[at] for row in rows]) for at in range(len(rows[0]))]
     ones = sorted(set(rows))
@@ -25,7 +25,7 @@ def settled(machine):
 
 def once(machine, ahead, behind, told):
     """The number of the class of alike strings of A in which the string lies."""
-    _check_lengths(ahead, behind)
+    check_lengths((ahead, behind))
     table = HalfTable(machine)
     if not _is_string(machine.letters(), ahead, told):
         raise NoRow()
@@ -36,7 +36,7 @@ def once(machine, ahead, behind, told):
 
 def heard_once(machine, ahead, behind, number, told):
     """What the machine says of a string of A of this class with the string of B behind."""
-    _check_lengths(ahead, behind)
+    check_lengths((ahead, behind))
     table = HalfTable(machine)
     firsts = table.class_states(ahead, behind)[0]
     if not is_between(number, 0, len(firsts) - 1):
@@ -44,14 +44,6 @@ def heard_once(machine, ahead, behind, number, told):
     if not _is_string(machine.letters(), behind, told):
         raise NoRow()
     return _led(table.fewest, firsts[number], told) in table.fewest.accepts()
-
-
-def _check_lengths(ahead, behind):
-    """Raises the error of a wrong length."""
-    if not is_between(ahead, 0, 10 ** 30):
-        raise NoNumber()
-    if not is_between(behind, 0, 10 ** 30):
-        raise NoNumber()
 
 
 def _is_string(letters, many, thing):

@@ -1,15 +1,18 @@
 """The three kinds of machines."""
 
 from saidacross.books import book
+from saidacross.changes import strict_pairs
 from saidacross.forms import is_letter, is_word
-from saidacross.machines import least, says
+from saidacross.machines import says
 from saidacross.partings import around_unlike
-from saidacross.walking import ends_of, then
+
+# The kinds, each one behind those that ask less.
+KINDS = ("fixed", "digits", "length")
 
 
 def fixed(machine):
     """Whether each two letters may change places."""
-    return _first_unlike(machine) is None
+    return len(strict_pairs(machine)) == 0
 
 
 def swap(machine):
@@ -17,10 +20,10 @@ def swap(machine):
 
     None if all letters may change places.
     """
-    letters = _first_unlike(machine)
-    if letters is None:
+    pairs = strict_pairs(machine)
+    if len(pairs) == 0:
         return None
-    one, other = letters
+    one, other = pairs[0]
     ahead, behind = around_unlike(machine, one + other, other + one)
     if says(machine, ahead + one + other + behind):
         return (ahead, one, other, behind)
@@ -48,16 +51,9 @@ def kind(machine):
     return "length" if pages is None else "digits"
 
 
-def _first_unlike(machine):
-    """The first two letters that may not change places, or None."""
-    letters = machine.letters()
-    table = least(machine).table()
-    steps = {letter: ends_of(letters, table, letter) for letter in letters}
-    for one in letters:
-        for other in letters:
-            if then(steps[one], steps[other]) != then(steps[other], steps[one]):
-                return (one, other)
-    return None
+def is_at_most(machine, most):
+    """Whether the kind of the machine is this one, or one that asks less."""
+    return KINDS.index(kind(machine)) <= KINDS.index(most)
 
 
 def _is_swap(letters, thing):

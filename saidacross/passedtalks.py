@@ -5,17 +5,29 @@ from saidacross.voices import width_for
 from saidacross.walking import end_of
 
 
-def passed_state(fewest, dealing, row, voices):
-    """The state of the least machine to which the row leads, found aloud."""
+def passed_states(fewest, dealing, row, voices):
+    """The list of the states of the least machine behind the stretches, found aloud."""
+    unknown = [None] * len(stretches(dealing))
+    return passed_again(fewest, dealing, row, unknown, 0, voices)
+
+
+def passed_again(fewest, dealing, row, states, place, voices):
+    """The same where the states were these ones before the sign at this place changed."""
     width = width_for(len(fewest.table()))
-    state = 0
+    found = list(states)
     begin = 0
-    for hand, many in stretches(dealing):
-        word = row[begin:begin + many].replace(".", "")
-        end = end_of(fewest.letters(), fewest.table(), state, word)
-        state = voices.say(hand, [end], width)[0]
-        begin += many
-    return state
+    for at, (hand, many) in enumerate(stretches(dealing)):
+        end = begin + many
+        if end > place:
+            word = row[begin:end].replace(".", "")
+            ahead = found[at - 1] if at > 0 else 0
+            state = end_of(fewest.letters(), fewest.table(), ahead, word)
+            found[at] = voices.say(hand, [state], width)[0]
+            # From here on all is as it was.
+            if found[at] == states[at]:
+                return found
+        begin = end
+    return found
 
 
 def most_passed_bits(fewest, dealing):

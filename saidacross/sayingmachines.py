@@ -1,25 +1,24 @@
 """The machines of sayings."""
 
-from saidacross.errors import TooMany
 from saidacross.growing import grown, opposite, paired, stepped
 
 
 def machine_of_saying(letters, saying):
-    """The least machine of what is known to be a saying of these letters."""
+    """The least machine of what is known to be a saying of these letters.
+
+    The machine of each saying in it is made, too: so each one that has TooMany(200) states
+    is found.
+    """
     head = saying[0]
     if head == "not":
-        machine = opposite(machine_of_saying(letters, saying[1]))
-    elif head in ("and", "or", "cut", "cutlast"):
+        return opposite(machine_of_saying(letters, saying[1]))
+    if head in ("and", "or", "cut", "cutlast"):
         one = machine_of_saying(letters, saying[-2])
         other = machine_of_saying(letters, saying[-1])
         join = JOINS[head]
-        machine = join(saying, one, other)
-    else:
-        make = MAKES[head]
-        machine = make(letters, saying)
-    if len(machine.table()) > 200:
-        raise TooMany(200)
-    return machine
+        return join(saying, one, other)
+    make = MAKES[head]
+    return make(letters, saying)
 
 
 def _first(letters, saying):

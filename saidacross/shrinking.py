@@ -1,13 +1,18 @@
 """The fewest states that say the same."""
 
+from saidacross.errors import TooMany
 from saidacross.walking import reached
 
 
-def least_parts(table, accepts):
-    """The table and the accepted states of the least machine that says the same."""
-    order = reached(table)
+def least_parts(table, accepts, start=0, most=None):
+    """The table and the accepted states of the least machine that says the same.
+
+    `start` is the state from which words lead on. Where `most` tells a number there are
+    TooMany of more states.
+    """
+    order = reached(table, start)
     accepted = {state: True for state in accepts}
-    classes = _classes(table, accepted, order)
+    classes = _classes(table, accepted, order, most)
     # The classes are numbered as they come in `order`: state by state, letter by letter.
     rows = []
     yes = []
@@ -19,12 +24,15 @@ def least_parts(table, accepts):
     return tuple(rows), tuple(yes)
 
 
-def _classes(table, accepted, order):
+def _classes(table, accepted, order, most):
     """A dict from the states of `order` to the numbers of the classes that say alike."""
     classes = _numbered(order, {state: state in accepted for state in order})
     many = 0
     while many < _how_many(classes):
         many = _how_many(classes)
+        # The classes never get fewer: there is no need to go on.
+        if most is not None and many > most:
+            raise TooMany(most)
         marks = {}
         for state in order:
             marks[state] = (classes[state], tuple([classes[to] for to in table[state]]))

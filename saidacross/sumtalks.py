@@ -4,16 +4,22 @@ from saidacross.dealings import sight
 from saidacross.voices import width_for
 
 
-def sum_deed(doings, dealing, row, voices):
-    """The number of the deed of the row, found aloud."""
-    width = width_for(len(doings.words))
-    total = 0
+def sum_numbers(doings, dealing, row, voices):
+    """A dict from the hands to the numbers of the deeds of their letters, found aloud."""
+    return {hand: own_number(doings, dealing, row, hand, voices)
+            for hand in sorted(set(dealing))}
+
+
+def own_number(doings, dealing, row, hand, voices):
+    """The number of the deed of the letters of one hand, which says it."""
+    own = doings.number(sight(dealing, row, hand).replace(".", ""))
+    return voices.say(hand, [own], width_for(len(doings.words)))[0]
+
+
+def sum_state(doings, numbers):
+    """The state to which a row leads whose hands do this."""
     # The letters may change places: so may what the hands have done.
-    for hand in sorted(set(dealing)):
-        own = doings.number(sight(dealing, row, hand).replace(".", ""))
-        told = voices.say(hand, [own], width)
-        total = doings.both[total][told[0]]
-    return total
+    return doings.moves[doings.run(list(numbers.values()))][0]
 
 
 def most_sum_bits(doings, dealing):

@@ -8,8 +8,8 @@ from saidacross.errors import NoDealing, NoNumber, NoRow, NoWay, TalkOver
 from saidacross.forms import is_between
 from saidacross.kinds import fixed
 from saidacross.machines import least
-from saidacross.passedtalks import most_passed_bits, passed_state
-from saidacross.sumtalks import most_sum_bits, sum_deed
+from saidacross.passedtalks import most_passed_bits, passed_states
+from saidacross.sumtalks import most_sum_bits, sum_numbers, sum_state
 from saidacross.voices import Voices
 
 
@@ -122,9 +122,9 @@ def _talked(machine, dealing, row, way):
     voices = Voices()
     fewest = least(machine)
     if way == "passed":
-        state = passed_state(fewest, dealing, row, voices)
+        state = passed_states(fewest, dealing, row, voices)[-1]
     elif way == "sums":
-        state = doings.moves[sum_deed(doings, dealing, row, voices)][0]
+        state = sum_state(doings, sum_numbers(doings, dealing, row, voices))
     else:
         talk = BookTalk(Lore(doings, pages), dealing, row, voices)
         state = doings.moves[talk.part_deed(0, len(row), machine.letters())][0]

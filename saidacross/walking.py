@@ -18,10 +18,10 @@ def then(one, other):
     return tuple([other[state] for state in one])
 
 
-def reached(table):
-    """The states to which words lead from state 0, in the order in which they come first."""
-    order = [0]
-    known = {0: True}
+def reached(table, start=0):
+    """The states to which words lead from this one, in the order in which they come first."""
+    order = [start]
+    known = {start: True}
     at = 0
     while at < len(order):
         row = table[order[at]]

@@ -1,4 +1,4 @@
-"""Points 2 to 4 and 29: the general rules and the interface, for what has landed."""
+"""Points 2 to 4 and 29: the general rules and the interface."""
 
 import copy
 import importlib
@@ -8,23 +8,32 @@ import sys
 import unittest
 
 import support
+from saidacross.accounts import account, account_fault, account_value
 from saidacross.answertables import answers, rank
 from saidacross.blocks import block, block_fault
+from saidacross.boards import Board
 from saidacross.books import book, book_fault
 from saidacross.boxes import box, parted, worth
 from saidacross.dealings import crossed, seen, stretches
 from saidacross.deeds import deed, deeds, done, steady
-from saidacross.errors import (NoCounts, NoDeed, NoLot, NoMachine, NoNumber, NoTable, NoTurn, NoWord,
-                               SaidError)
+from saidacross.desk import Desk
+from saidacross.errors import (NoAccount, NoCounts, NoDeed, NoLot, NoMachine, NoNumber, NoPlace, NoSaying,
+                               NoTable, NoTurn, NoWord, SaidError)
 from saidacross.gaps import gap
 from saidacross.halves import halves, heard_once, once, settled
 from saidacross.kinds import fixed, kind, swap, swap_fault
 from saidacross.lots import core, fulls, made
 from saidacross.machines import Machine, least, parting, says, says_far
+from saidacross.owners import own_talk, owned
 from saidacross.pieces import between, modulus, pieces, pieces_back
+from saidacross.quietly import quiet
 from saidacross.sayings import holds, machine_of
+from saidacross.sayingtexts import read_saying, saying_text
 from saidacross.strangers import break_long, break_talk
 from saidacross.talks import Talk, cheapest, most_bits, ways
+from saidacross.texts import machine_text, read_machine, read_talk, talk_text
+from saidacross.thirds import spread, thirds
+from saidacross.together import around, backward, both, either, otherwise, put, without
 from saidacross.writings import mark_block, mark_fault, mark_rank, mark_writings, order_writings
 from test_deeds import EXCHANGES, counts
 
@@ -52,17 +61,29 @@ INTERFACE = {
     "halves": ["halves(machine, ahead, behind)", "settled(machine)",
                "once(machine, ahead, behind, told)",
                "heard_once(machine, ahead, behind, number, told)"],
+    "thirds": ["thirds(machine, ahead, middle, behind)", "spread(machine)"],
+    "accounts": ["account(machine)", "account_value(thing, word)", "account_fault(machine, thing)"],
+    "owners": ["owned(machine, owners)", "own_talk(machine, owners, dealing, row)"],
+    "together": ["otherwise(machine)", "both(one, other)", "either(one, other)", "backward(machine)",
+                 "without(machine, letters)", "put(machine, words)", "around(machine, ahead, behind)"],
+    "quietly": ["quiet(machine, kind)"],
+    "texts": ["machine_text(machine)", "read_machine(text)", "talk_text(messages)", "read_talk(text)"],
+    "sayingtexts": ["saying_text(saying)", "read_saying(text)"],
 }
 CLASSES = {
     "machines": ("Machine(letters, table, accepts)", ["letters()", "table()", "accepts()",
                                                       "__eq__(other)"]),
     "talks": ("Talk(machine, dealing, row, way)", ["step()", "heard()", "bits()", "answer()", "run()",
                                                    "back(many)", "copy()"]),
+    "boards": ("Board(machine, dealing, row, way)", ["change(place, sign)", "row()", "answer()", "bits()",
+                                                     "back()"]),
+    "desk": ("Desk()", ["tell(line)", "undoable()"]),
 }
 FIRST = Machine("ab", ((1, 2), (1, 1), (2, 2)), (1,))
 RING = Machine("ab", ((1, 2), (2, 0), (2, 2)), (0,))
 BOOK = {"a": (1, "a"), "b": (1, "b"), "ab": (1, "ab")}
 BLOCK = ("ab", "a", "a", "b", "b")
+SAYING = ("and", ("first", "a"), ("not", ("count", "b", 3, 1)))
 
 
 def calls_about(machine):
@@ -83,7 +104,40 @@ def calls_about(machine):
         (answers, machine, "AB", [x, ".", x], [y, y]), (rank, [[1, 2], [2, 4], [0, 1]]),
         (mark_fault, machine, ("", BLOCK, "")), (halves, machine, 2, 10 ** 30), (settled, machine),
         (once, machine, 2, 3, x + "."), (heard_once, machine, 2, 3, 0, "." + y + y),
-    ] + calls_by_kind(machine)
+    ] + calls_put_together(machine) + calls_by_kind(machine)
+
+
+def calls_put_together(machine):
+    """Calls of the functions that put machines together, and of those for all machines behind them."""
+    x, y = machine.letters()[0], machine.letters()[-1]
+    mine = {letter: "B" for letter in machine.letters()}
+    return [
+        (account, machine), (account_value, account(machine), x + y), (spread, machine),
+        (account_fault, machine, account(machine)), (thirds, machine, 1, 10 ** 30, 2),
+        (owned, machine, mine), (own_talk, machine, mine, "ABB", "." + y + x), (otherwise, machine),
+        (both, machine, least(machine)), (either, machine, least(machine)), (backward, machine),
+        (without, machine, machine.letters()[1:]), (put, machine, {"q": x + y, "a": ""}),
+        (around, machine, y, x), (quiet, machine, "fixed"), (quiet, machine, "digits"),
+        (machine_text, machine), (read_machine, machine_text(machine)), (saying_text, SAYING),
+        (read_saying, saying_text(SAYING)), (talk_text, [("A", "01"), ("D", "1")]), (read_talk, "A 01\nD 1"),
+        (whole_board, machine, "ABBA", x + "." + y + x, "passed"), (whole_desk, machine),
+    ]
+
+
+def whole_board(machine, dealing, row, way):
+    """All that a board tells of some changes."""
+    board = Board(machine, dealing, row, way)
+    told = [board.change(place, sign) for place, sign in ((1, row[0]), (0, "."), (3, row[2]))]
+    return (told, board.row(), board.answer(), board.bits(), board.back(), board.row(), board.bits())
+
+
+def whole_desk(machine):
+    """All that a desk tells of some lines."""
+    desk = Desk()
+    x = machine.letters()[0]
+    lines = ["keep m " + machine_text(machine).replace("\n", "|"), "names", "kind m", "swap m", "say m ." + x,
+             "talk m ABA .." + x, "bits", "answer", "undo", "make m a (last a)", "drop m", "undo", "names"]
+    return ([desk.tell(line) for line in lines], desk.undoable())
 
 
 def whole_talk(machine, dealing, row, way):
@@ -104,6 +158,7 @@ def calls_by_kind(machine):
                   (whole_talk, machine, "ABBA", lot[0] + "." + lot[-1] * 2, "book")]
     if fixed(machine):
         calls.append((whole_talk, machine, "ABBA", lot[0] + "." + lot[-1] * 2, "sums"))
+        calls.append((whole_board, machine, "ABBA", lot[0] + "." + lot[-1] * 2, "sums"))
     else:
         calls += [(order_writings, machine, 3),
                   (break_talk, machine, 1, lambda dealing, heard: heard == "1" or not heard and "A",
@@ -136,12 +191,23 @@ class InterfaceTest(unittest.TestCase):
             one = getattr(importlib.import_module("saidacross." + file), name)
             self.assertTrue(inspect.isclass(one))
             self.assertEqual(one.__module__, "saidacross." + file)
-            self.assertEqual(list(inspect.signature(one).parameters), arguments.split(", "))
+            self.assertEqual(list(inspect.signature(one).parameters), arguments.split(", ") if arguments else [])
             for method in methods:
                 name, arguments = method[:-1].split("(")
                 self.assertIn(name, vars(one))
                 told = list(inspect.signature(vars(one)[name]).parameters)
-                self.assertEqual(told, ["self"] + [part for part in [arguments] if part])
+                self.assertEqual(told, ["self"] + (arguments.split(", ") if arguments else []))
+
+    def test_all_that_the_document_lists(self):
+        listed = {file: [line.split("(")[0] for line in lines] for file, lines in INTERFACE.items()}
+        for file, (line, _) in CLASSES.items():
+            listed.setdefault(file, []).append(line.split("(")[0])
+        self.assertEqual(sum(len(names) for names in listed.values()), 73)
+        self.assertEqual(len(listed), 25)
+        for file in listed:
+            module = importlib.import_module("saidacross." + file)
+            for name in listed[file]:
+                self.assertEqual(getattr(module, name).__module__, "saidacross." + file)
 
     def test_kinds_of_values(self):
         for machine in (FIRST, RING, Machine("c", ((0,),), ())):
@@ -190,6 +256,25 @@ class InterfaceTest(unittest.TestCase):
         for told in (order_writings(FIRST, 2), mark_writings(RING, mark_block(RING), 1)):
             self.assertEqual([type(one) for one in told], [str, list, list])
 
+    def test_kinds_of_values_of_what_is_put_together(self):
+        for told in (thirds(FIRST, 1, 1, 1), spread(FIRST), account_value(account(FIRST), "a"),
+                     read_saying("(only -)"), account_fault(FIRST, None)):
+            self.assertIs(type(told), tuple)
+        self.assertEqual([type(one) for one in account(FIRST)], [tuple, dict, tuple])
+        self.assertIs(type(owned(FIRST, {"a": "A", "b": "A"})), bool)
+        self.assertEqual([type(one) for one in own_talk(FIRST, {"a": "A", "b": "A"}, "AB", "b.")], [list, bool])
+        board = Board(FIRST, "AB", "ab", "passed")
+        self.assertEqual([type(one) for one in (board.change(0, "b"), board.row(), board.answer(), board.bits(),
+                                                board.back())], [list, str, bool, int, bool])
+        for machine in (otherwise(FIRST), both(FIRST, RING), either(FIRST, RING), backward(FIRST),
+                        without(FIRST, "a"), put(FIRST, {"c": "ab"}), around(FIRST, "a", "b"),
+                        read_machine(machine_text(FIRST))):
+            self.assertIs(type(machine), Machine)
+        self.assertEqual([type(one) for one in (quiet(FIRST, "fixed"), read_talk("A 0"))], [list, list])
+        self.assertEqual([type(one) for one in (machine_text(FIRST), talk_text([]), saying_text(SAYING),
+                                                Desk().tell("names"))], [str] * 4)
+        self.assertIs(type(Desk().undoable()), int)
+
 
 class IntegersAndFlagsTest(unittest.TestCase):
     """Point 2: a flag is no integer, wherever it stands."""
@@ -218,6 +303,15 @@ class IntegersAndFlagsTest(unittest.TestCase):
                          lambda: break_talk(FIRST, flag, None, None)):
                 with self.assertRaises(NoNumber):
                     call()
+            with self.assertRaises(NoNumber):
+                thirds(FIRST, 0, flag, 0)
+            for pair in ((flag, 1), (1, flag)):
+                with self.assertRaises(NoAccount):
+                    account_value(((pair,), {"a": (((1, 1),),)}, ((1, 1),)), "a")
+            with self.assertRaises(NoPlace):
+                Board(FIRST, "AB", "ab", "passed").change(flag, "a")
+            with self.assertRaises(NoSaying):
+                saying_text(("least", "a", flag))
         # An integer is no flag, either.
         for number in (0, 1):
             with self.assertRaises(NoTurn):
@@ -246,7 +340,9 @@ class NothingIsChangedTest(unittest.TestCase):
     def test_arguments_stay_as_they_were(self):
         things = [["ab"], {"a": [1, "a"], "b": [2]}, {"ab": (1, "ab"), "a": (1, "a"), "b": (1, "b")},
                   [["a", "b"], {}], ("", "a", ["b"], {"": ""}), ["", "a", "b", ""], [0, 1, 2],
-                  [[0, 2, 1], [1, 1, 1], [2, 4, 2]], ["a", "b"], ["ab", ".."]]
+                  [[0, 2, 1], [1, 1, 1], [2, 4, 2]], ["a", "b"], ["ab", ".."], {"b": "B", "a": "A"},
+                  {"b": "B", "a": "B"}, {"q": "ab", "a": ""}, [("A", "01"), ("D", "1")], account(FIRST), account(RING),
+                  ("not", ["first", "a"]), {"b": "A", "c": ["A"]}, (((1, 1),), {"b": [((1, 2),)], "a": 0}, [])]
         judges = [
             lambda thing: says(FIRST, thing), lambda thing: says_far(FIRST, "a", thing),
             lambda thing: holds(thing, ("first", "a"), "a"), lambda thing: holds("ab", thing, "a"),
@@ -264,6 +360,13 @@ class NothingIsChangedTest(unittest.TestCase):
             lambda thing: mark_rank(RING, thing, 1), lambda thing: pieces("ab", thing),
             lambda thing: between(FIRST, "ab", "ab", thing, "ab"),
             lambda thing: Talk(FIRST, "AB", "ab", thing), lambda thing: most_bits(FIRST, thing, "book"),
+            lambda thing: account_value(thing, "ab"), lambda thing: account_fault(FIRST, thing),
+            lambda thing: account_fault(RING, thing), lambda thing: owned(FIRST, thing),
+            lambda thing: own_talk(FIRST, thing, "AB", ".b"), lambda thing: put(FIRST, thing),
+            lambda thing: talk_text(thing), lambda thing: read_talk(thing), lambda thing: read_machine(thing),
+            lambda thing: saying_text(thing), lambda thing: read_saying(thing), lambda thing: without(FIRST, thing),
+            lambda thing: quiet(FIRST, thing), lambda thing: Board(FIRST, "AB", "ab", thing),
+            lambda thing: Board(FIRST, "AB", "ab", "passed").change(0, thing), lambda thing: Desk().tell(thing),
         ]
         for judge in judges:
             for thing in things:
@@ -289,14 +392,21 @@ class NothingIsChangedTest(unittest.TestCase):
             for function, *arguments in calls_about(machine):
                 told = function(*arguments)
                 keep = copy.deepcopy(told)
-                if isinstance(told, list):
-                    told.reverse()
-                    told.append(None)
-                    told[0] = 0
-                elif isinstance(told, dict):
-                    told.clear()
-                    told["a"] = None
+                self.spoil(told)
                 self.assertEqual(function(*arguments), keep)
+
+    def spoil(self, told):
+        """Changes each list and each dict in what was returned."""
+        if isinstance(told, (list, tuple, dict)):
+            for part in list(told.values()) if isinstance(told, dict) else list(told):
+                self.spoil(part)
+        if isinstance(told, list):
+            told.reverse()
+            told.append(None)
+            told[0] = 0
+        elif isinstance(told, dict):
+            told.clear()
+            told["a"] = None
 
     def test_errors_change_nothing(self):
         keep = deeds(FIRST)
@@ -318,6 +428,12 @@ class NothingIsChangedTest(unittest.TestCase):
         other = machine_of("abcd", ("count", "a", 6, 0))
         self.assertEqual(parting(machine, other), "b")
         self.assertEqual(halves(machine, 10 ** 30, 10 ** 30), (180, 180, 180))
+        self.assertIsNone(account_fault(machine, account(machine)))
+        self.assertEqual(both(otherwise(machine), backward(machine)).table(), ((0, 0, 0, 0),))
+        self.assertEqual(read_machine(machine_text(machine)), machine)
+        self.assertIs(owned(without(machine, "d"), {"a": "A", "b": "B", "c": "C"}), True)
+        self.assertEqual(len(put(machine, {"x": "ab", "y": "ac"}).table()), 180)
+        self.assertEqual(len(around(machine, "a" * 199, "b" * 200).table()), 180)
         dealing, ones, others = order_writings(EXCHANGES, 100)
         self.assertEqual(rank(answers(EXCHANGES, dealing, ones, others)), 100)
         self.assertEqual(len(stretches(dealing)), len(dealing))
@@ -349,9 +465,12 @@ class OrderOfArgumentsTest(unittest.TestCase):
             self.assertEqual(swap_fault(FIRST, thing), ("form",))
             self.assertEqual(block_fault(FIRST, thing), ("form",))
             self.assertEqual(book_fault(FIRST, thing), ("form",))
+            self.assertEqual(account_fault(FIRST, thing), ("form",))
             for other in support.odd_values():
                 with self.assertRaises(NoDeed):
                     done(FIRST, thing, other)
+                with self.assertRaises(NoAccount):
+                    account_value(thing, other)
 
 
 class NoRecursionErrorTest(unittest.TestCase):
@@ -391,6 +510,12 @@ class NoRecursionErrorTest(unittest.TestCase):
         self.shallow(lambda: rank([[int(one <= other) for other in range(128)] for one in range(128)]))
         self.shallow(lambda: mark_rank(RING, mark_block(RING), 300))
         self.shallow(lambda: once(FIRST, 3000, 5, "ab." * 1000))
+        board = self.shallow(lambda: Board(RING, dealing, row, "passed"))
+        for place in (0, 399, 200):
+            self.shallow(lambda: board.change(place, "a"))
+        self.shallow(lambda: own_talk(FIRST, {"a": "A", "b": "A"}, "A" * 400, row))
+        self.shallow(lambda: account_value(account(FIRST), "ab" * 1500))
+        self.shallow(lambda: read_talk(talk_text([("A", "01")] * 5000)))
 
     def test_many_states(self):
         machine = self.shallow(lambda: counts(5, 5, 2, 4))
@@ -398,7 +523,11 @@ class NoRecursionErrorTest(unittest.TestCase):
         for call in (lambda: least(machine), lambda: parting(machine, machine),
                      lambda: says(machine, "abcd" * 50), lambda: steady(machine, "abcd"),
                      lambda: fixed(machine), lambda: swap(machine),
-                     lambda: halves(machine, 9, 9), lambda: settled(machine)):
+                     lambda: halves(machine, 9, 9), lambda: settled(machine),
+                     lambda: account_fault(machine, account(machine)), lambda: backward(machine),
+                     lambda: both(machine, otherwise(machine)), lambda: either(machine, machine),
+                     lambda: read_machine(machine_text(machine)), lambda: without(machine, "ab"),
+                     lambda: put(machine, {"a": "abcd" * 50}), lambda: around(machine, "a", "b" * 200)):
             self.shallow(call)
 
     def test_deep_values(self):
@@ -410,11 +539,20 @@ class NoRecursionErrorTest(unittest.TestCase):
                          lambda: seen(thing, thing, thing), lambda: crossed("AB", thing),
                          lambda: Talk(FIRST, "AB", "ab", thing), lambda: rank(thing),
                          lambda: answers(FIRST, thing, thing, thing),
-                         lambda: mark_writings(RING, thing, thing)):
+                         lambda: mark_writings(RING, thing, thing), lambda: account_value(thing, thing),
+                         lambda: thirds(FIRST, 1, 1, [thing]), lambda: owned(FIRST, thing),
+                         lambda: owned(FIRST, {"a": thing, "b": thing}), lambda: put(FIRST, thing),
+                         lambda: put(FIRST, {"a": [thing]}), lambda: own_talk(FIRST, thing, thing, thing),
+                         lambda: Board(FIRST, "AB", "ab", thing), lambda: without(FIRST, [thing]),
+                         lambda: Board(FIRST, "AB", "ab", "passed").change(thing, thing),
+                         lambda: Board(FIRST, "AB", "ab", "passed").change(0, thing), lambda: quiet(FIRST, thing),
+                         lambda: around(FIRST, [thing], thing), lambda: saying_text(("not", thing)),
+                         lambda: saying_text(thing), lambda: read_saying(thing), lambda: read_machine(thing),
+                         lambda: read_talk(thing or None), lambda: talk_text([thing]), lambda: Desk().tell(thing)):
                 with self.assertRaises(SaidError):
                     if self.shallow(call) is not None and isinstance(thing, str):
                         raise SaidError()
-            for judge in (swap_fault, block_fault, book_fault, mark_fault):
+            for judge in (swap_fault, block_fault, book_fault, mark_fault, account_fault):
                 self.assertEqual(self.shallow(lambda: judge(FIRST, thing)), ("form",))
 
 
