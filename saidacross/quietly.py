@@ -1,6 +1,5 @@
 """Which letters must be left out so that less need be said."""
 
-from saidacross.doings import Doings
 from saidacross.errors import NoKind
 from saidacross.kinds import is_at_most
 from saidacross.lots import lots_of
@@ -11,9 +10,8 @@ def quiet(machine, kind):
     """All strings of letters without which, and not without fewer, this kind is enough."""
     if kind not in ("fixed", "digits"):
         raise NoKind()
-    # Without letters there may be few deeds: but then, too, those of all letters count.
-    Doings(machine)
     found = []
+    # With no letter left out at first it is seen whether the machine itself has too many deeds.
     for letters in [""] + lots_of(machine.letters())[:-1]:
         if not _has_part(letters, found) and is_at_most(without(machine, letters), kind):
             found.append(letters)
